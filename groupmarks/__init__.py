@@ -1,0 +1,1 @@
+"""Groupmarks: which part of a text each group took."""
